@@ -350,7 +350,7 @@ func ran(t *testing.T, p api.Plan) (api.Shelf, []api.Reply) {
 	return s, l
 }
 
-// P25.2 and P25.4: Run; without its crashes a plan's answers are the same.
+// P25.2 and P25.4: Run; without its crashes a plan's answers are the same. R1: so is another run of it.
 func TestRun(t *testing.T) {
 	r := rand.New(rand.NewSource(2))
 	whys := map[api.Errno]int{}
@@ -361,6 +361,9 @@ func TestRun(t *testing.T) {
 		s, l, e := script.Run(p)
 		if e != api.OK || !sameShelf(s, want) || !slices.EqualFunc(l, answers, sameReply) || !same(p, was) {
 			t.Fatalf("%v: %v, %d, not %v", p, l, e, answers)
+		}
+		if again, more, f := script.Run(p); f != api.OK || !sameShelf(again, s) || !slices.EqualFunc(more, l, sameReply) {
+			t.Fatalf("%v: another time %v, %d", p, more, f)
 		}
 		calm := api.Plan{Size: p.Size}
 		for _, step := range p.Steps {

@@ -459,6 +459,9 @@ func TestPublishRefuses(t *testing.T) {
 	full := filled(t, s)
 	check(full, "g", "x", filter(4000), api.ErrSpace) // the source is laid ahead of the filter
 	check(full, "web", "", filter(1), api.ErrSpace)
+	check(full, "1234567890123", "", filter(1), api.ErrArg)
+	check(full, "web", strings.Repeat("x", 2001), filter(1), api.ErrArg)
+	check(full, "web", "", filter(1)+"f", api.ErrArg)
 
 	many := start(t, 256)
 	for _, name := range strings.Split("abcdefgh", "") {
@@ -468,6 +471,9 @@ func TestPublishRefuses(t *testing.T) {
 	check(many, "A", "x", filter(4096), api.ErrMany)
 	check(many, "", "x", filter(1), api.ErrArg)
 	check(many, "i", "x", "", api.ErrArg)
+	check(many, "1234567890123", "x", filter(1), api.ErrArg)
+	check(many, "i", strings.Repeat("x", 2001), filter(1), api.ErrArg)
+	check(many, "i", "x", strings.Repeat("f", 32776), api.ErrArg)
 	for i := 2; i <= 6; i++ {
 		many = publish(t, many, "d", "", filter(1))
 	}
